@@ -1,0 +1,1 @@
+"""Stores whose trees have one shape for each content."""

@@ -1,0 +1,90 @@
+"""The interface's names and arguments, and such rules of the language as are plain to see."""
+
+import ast
+import importlib
+import inspect
+import pathlib
+import unittest
+
+INTERFACE = {
+    "trees": {
+        "is_ranking": "value", "is_tree": "ranking value", "tree_of": "ranking content",
+        "content_of": "ranking tree", "least_ranking": "ranking", "way": "ranking tree key",
+        "above": "ranking content key", "below": "ranking content key",
+        "top_between": "ranking content key other_key", "put_in": "ranking tree key",
+        "taken_out": "ranking tree key", "is_search_tree": "value", "tree_text": "search_tree",
+        "tree_told": "text",
+    },
+    "reach": {
+        "part_of": "ranking tree key", "parts_of": "ranking tree", "behind": "ranking tree key",
+        "reach": "ranking tree key", "longest_way": "ranking content",
+    },
+}
+
+PACKAGE = pathlib.Path(__file__).resolve().parent.parent / "oneshape"
+
+
+class Layout(unittest.TestCase):
+    def setUp(self):
+        self.files = {path.name: path.read_bytes() for path in sorted(PACKAGE.glob("*.py"))}
+        self.trees = {name: ast.parse(text) for name, text in self.files.items()}
+
+    def test_the_interface_is_there(self):
+        for file, functions in INTERFACE.items():
+            module = importlib.import_module("oneshape." + file)
+            defined = {node.name for node in self.trees[file + ".py"].body if isinstance(node, ast.FunctionDef)}
+            for name, arguments in functions.items():
+                self.assertIn(name, defined)
+                self.assertEqual(getattr(module, name).__module__, "oneshape." + file)
+                self.assertEqual(list(inspect.signature(getattr(module, name)).parameters), arguments.split())
+
+    def test_the_folder_holds_nothing_else(self):
+        found = {path.name for path in PACKAGE.iterdir()} - {"__pycache__"}
+        self.assertEqual(found, set(self.files))
+        self.assertIn("__init__.py", found)
+
+    def test_sizes_and_characters(self):
+        for name, text in self.files.items():
+            self.assertTrue(all(byte == 10 or 32 <= byte < 127 for byte in text), name)
+            lines = text.decode("ascii").splitlines()
+            self.assertLessEqual(len(lines), 399, name)
+            self.assertLessEqual(max(map(len, lines), default=0), 120, name)
+            for node in ast.walk(self.trees[name]):
+                if isinstance(node, ast.FunctionDef):
+                    self.assertLessEqual(node.end_lineno - node.lineno + 1, 40, (name, node.name))
+
+    def test_modules_hold_only_what_may_stand_there(self):
+        allowed = (ast.ImportFrom, ast.FunctionDef, ast.ClassDef, ast.Assign)
+        for name, tree in self.trees.items():
+            for node in tree.body[1:]:
+                self.assertIsInstance(node, allowed, name)
+            self.assertTrue(ast.get_docstring(tree), name)
+
+    def test_imports_are_of_the_package_and_lead_in_no_ring(self):
+        imported = {}
+        for name, tree in self.trees.items():
+            sources = [node.module for node in ast.walk(tree) if isinstance(node, ast.ImportFrom)]
+            self.assertFalse([node for node in ast.walk(tree) if isinstance(node, ast.Import)], name)
+            for source in sources:
+                self.assertRegex(source, "^oneshape[.][a-z_]+$")
+            imported[name] = {source.split(".")[1] + ".py" for source in sources}
+        while imported:
+            free = [name for name, sources in imported.items() if not sources & set(imported)]
+            self.assertTrue(free, imported)
+            for name in free:
+                del imported[name]
+
+    def test_no_word_stands_there_that_may_not(self):
+        barred = {"open", "input", "eval", "exec", "chr", "float", "globals", "locals", "vars", "dir", "id", "hash"}
+        for name, tree in self.trees.items():
+            for node in ast.walk(tree):
+                self.assertNotIsInstance(node, (ast.AsyncFunctionDef, ast.Div), name)
+                if isinstance(node, ast.Name):
+                    self.assertNotIn(node.id, barred, name)
+            for node in tree.body:
+                if isinstance(node, (ast.FunctionDef, ast.ClassDef)):
+                    self.assertEqual(node.decorator_list, [], name)
+
+
+if __name__ == "__main__":
+    unittest.main()
