@@ -3,10 +3,25 @@
 Kinds are asked for with type(x), as a truth is no integer here and no subclass counts.
 """
 
-from oneshape.errors import InvalidContent, InvalidKey, InvalidRanking, InvalidTree
-from oneshape.parts import keys_of, tree_by_ranks
+from oneshape.errors import (
+    InvalidContent,
+    InvalidContents,
+    InvalidCount,
+    InvalidKey,
+    InvalidLevels,
+    InvalidOrder,
+    InvalidRanking,
+    InvalidStore,
+    InvalidTree,
+    InvalidTrees,
+)
+from oneshape.parts import MOST_KEYS, keys_of, ranking_from_top, tree_by_ranks
 
-MOST_KEYS = 24
+MOST_TOLD_TREES = 8
+MOST_TOLD_KEYS = 10
+MOST_CONTENTS = 8
+GREATEST_LEVEL = 4
+GREATEST_WORTH = 999999999
 
 
 def is_key_below(value, bound):
@@ -52,6 +67,47 @@ def holds_tree(ranking, value):
     return value == tree_by_ranks(ranking, keys_of(value))
 
 
+def holds_order(search_tree, value):
+    """Whether the value is a rank order of the search tree."""
+    if type(value) is not tuple or not all([type(key) is int for key in value]):
+        return False
+    keys = keys_of(search_tree)
+    if tuple(sorted(value)) != keys:
+        return False
+    # The keys, hung below one another in this sequence, make one tree only.
+    return tree_by_ranks(ranking_from_top(value), keys) == search_tree
+
+
+def holds_told_trees(value):
+    """Whether the value is told trees."""
+    if type(value) is not tuple or not 1 <= len(value) <= MOST_TOLD_TREES:
+        return False
+    if not all([holds_search_tree(tree, 0, MOST_KEYS) for tree in value]):
+        return False
+    return len({key for tree in value for key in keys_of(tree)}) <= MOST_TOLD_KEYS
+
+
+def holds_levels(value):
+    """Whether the value is levels."""
+    if type(value) is not tuple or len(value) > MOST_KEYS:
+        return False
+    return all([type(level) is int and 0 <= level <= GREATEST_LEVEL for level in value])
+
+
+def holds_worth(value):
+    """Whether the value is a worth."""
+    return type(value) is int and -GREATEST_WORTH <= value <= GREATEST_WORTH
+
+
+def holds_store(value, bound):
+    """Whether the value is a store of keys less than the bound."""
+    if type(value) is not tuple:
+        return False
+    if not all([type(entry) is tuple and len(entry) == 2 and holds_worth(entry[1]) for entry in value]):
+        return False
+    return is_lot_below(tuple([entry[0] for entry in value]), bound)
+
+
 def check_ranking(ranking):
     """InvalidRanking unless this is a ranking."""
     if not holds_ranking(ranking):
@@ -80,6 +136,64 @@ def check_key(key, bound):
     """InvalidKey unless this is a key less than the bound."""
     if not is_key_below(key, bound):
         raise InvalidKey("a key is an integer from 0 on, less than the number of keys")
+
+
+def check_number(number):
+    """InvalidCount unless this is an integer from 0 on."""
+    if type(number) is not int or number < 0:
+        raise InvalidCount("a number is an integer from 0 on")
+
+
+def check_size(size):
+    """InvalidCount unless this is an integer from 1 to 24."""
+    if type(size) is not int or not 1 <= size <= MOST_KEYS:
+        raise InvalidCount("a size is an integer from 1 to 24")
+
+
+def check_order(search_tree, order):
+    """InvalidOrder unless this is a rank order of the search tree."""
+    if not holds_order(search_tree, order):
+        raise InvalidOrder("a rank order has all keys of the tree, each ahead of the others of its part")
+
+
+def check_told_trees(trees):
+    """InvalidTrees unless these are told trees."""
+    if not holds_told_trees(trees):
+        raise InvalidTrees("told trees are a tuple of 1 to 8 search trees with at most ten keys in all")
+
+
+def check_contents(contents, bound):
+    """InvalidContents unless this is a tuple of at most 8 contents of keys less than the bound."""
+    if type(contents) is not tuple or len(contents) > MOST_CONTENTS:
+        raise InvalidContents("contents are a tuple of at most 8 contents")
+    if not all([is_lot_below(content, bound) for content in contents]):
+        raise InvalidContents("each of the contents is an ascending tuple of keys")
+
+
+def check_levels(levels):
+    """InvalidLevels unless these are levels."""
+    if not holds_levels(levels):
+        raise InvalidLevels("levels are a tuple of at most 24 integers from 0 to 4")
+
+
+def check_store(store, bound):
+    """InvalidStore unless this is a store of keys less than the bound."""
+    if not holds_store(store, bound):
+        raise InvalidStore("a store is a tuple of tuples (key, worth), the keys ascending")
+
+
+def check_two_trees(ranking, tree, other_tree):
+    """The errors of these three parameters, in their order."""
+    check_ranking(ranking)
+    check_tree(ranking, tree)
+    check_tree(ranking, other_tree)
+
+
+def check_two_stores(ranking, store, other_store):
+    """The errors of these three parameters, in their order."""
+    check_ranking(ranking)
+    check_store(store, len(ranking))
+    check_store(other_store, len(ranking))
 
 
 def check_tree_and_key(ranking, tree, key):

@@ -1,5 +1,7 @@
 """Steps over trees and keys that are known to be good; nothing is checked here."""
 
+MOST_KEYS = 24
+
 
 def tree_by_ranks(ranking, keys):
     """The tree of these ascending keys."""
@@ -66,3 +68,29 @@ def height_of(tree):
         return 0
     left, _, right = tree
     return 1 + max(height_of(left), height_of(right))
+
+
+def keys_less(keys, bound):
+    """Those of the ascending keys that are less than the bound."""
+    return tuple([key for key in keys if key < bound])
+
+
+def keys_greater(keys, bound):
+    """Those of the ascending keys that are greater than the bound."""
+    return tuple([key for key in keys if key > bound])
+
+
+def keys_of_either(keys, other_keys):
+    """The lot of the keys that at least one of both lots has."""
+    return tuple(sorted(set(keys) | set(other_keys)))
+
+
+def keys_of_one_alone(keys, other_keys):
+    """The lot of the keys that just one of both lots has."""
+    return tuple(sorted(set(keys) ^ set(other_keys)))
+
+
+def ranking_from_top(order):
+    """A ranking of 24 keys: those of the order have the greatest ranks, the first one the greatest of all."""
+    row = list(order) + [key for key in range(MOST_KEYS) if key not in order]
+    return tuple([MOST_KEYS - 1 - row.index(key) for key in range(MOST_KEYS)])

@@ -1,7 +1,6 @@
 """Trees by ranks, and search trees with their texts."""
 
 from oneshape.checks import (
-    MOST_KEYS,
     check_content,
     check_content_and_key,
     check_key,
@@ -14,7 +13,7 @@ from oneshape.checks import (
     holds_tree,
 )
 from oneshape.errors import InvalidText, Refused
-from oneshape.parts import keys_of, part_at, tree_by_ranks, tree_with, tree_without, way_in
+from oneshape.parts import MOST_KEYS, keys_of, part_at, tree_by_ranks, tree_with, tree_without, way_in
 
 
 def is_ranking(value):

@@ -63,8 +63,13 @@ def some_lots(seed, how_many):
 
 def grown_tree(ranking, content):
     """The tree, grown by hanging the keys below one another from the greatest rank to the least."""
+    return hung_all(sorted(content, key=lambda member: -ranking[member]))
+
+
+def hung_all(sequence):
+    """The tree of keys that are hung below one another in this sequence."""
     tree = ()
-    for key in sorted(content, key=lambda member: -ranking[member]):
+    for key in sequence:
         tree = hung(tree, key)
     return tree
 
@@ -83,6 +88,19 @@ def parts_by_top(tree):
     if tree == ():
         return {}
     return {**parts_by_top(tree[0]), tree[1]: tree, **parts_by_top(tree[2])}
+
+
+def held_by(tree):
+    """The lot of the keys of a tree."""
+    return tuple(sorted(parts_by_top(tree)))
+
+
+def shapes_by_orders(keys):
+    """The dict of the search trees of these keys, each with its rank orders ascending, by all sequences of the keys."""
+    found = {}
+    for sequence in permutations(keys):
+        found.setdefault(hung_all(sequence), []).append(sequence)
+    return found
 
 
 def raised(call, *arguments, **named):

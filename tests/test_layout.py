@@ -19,6 +19,31 @@ INTERFACE = {
         "part_of": "ranking tree key", "parts_of": "ranking tree", "behind": "ranking tree key",
         "reach": "ranking tree key", "longest_way": "ranking content",
     },
+    "parted": {
+        "parted": "ranking tree key", "joined": "ranking tree other_tree", "either_tree": "ranking tree other_tree",
+        "common_tree": "ranking tree other_tree", "less_tree": "ranking tree other_tree",
+        "unlike_tree": "ranking tree other_tree", "opened": "ranking tree other_tree",
+        "fresh": "ranking tree other_tree", "opened_bounds": "keys other_keys",
+        "opening_ranking": "keys other_keys number",
+    },
+    "shapes": {
+        "all_trees": "keys", "is_rank_order": "search_tree value", "rank_orders": "search_tree",
+        "rank_order_at": "search_tree number", "rank_order_index": "search_tree order", "told_above": "trees",
+        "ring_of": "trees", "orders_told": "trees", "order_told": "trees number", "surely_above": "trees",
+        "common_ranking": "trees", "told_tree": "trees keys", "trees_left": "trees keys",
+        "tells_all": "ranking contents", "fewest_contents": "ranking", "telling_contents": "ranking",
+    },
+    "pages": {
+        "height": "levels content", "page_of": "levels content", "is_page": "levels value",
+        "page_keys": "levels page", "page_lists": "levels content", "path_to": "levels content key",
+        "page_put": "levels page key", "page_out": "levels page key", "page_changes": "levels content key",
+        "cut": "ranking content size", "is_cut": "ranking size value", "cut_changes": "ranking content key size",
+    },
+    "looks": {
+        "is_store": "ranking value", "differing": "ranking store other_store",
+        "look_run": "ranking store other_store", "look_count": "ranking store other_store",
+        "parting": "ranking store other_store", "most_parting": "ranking count", "hardest": "ranking count",
+    },
 }
 
 PACKAGE = pathlib.Path(__file__).resolve().parent.parent / "oneshape"

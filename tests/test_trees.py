@@ -3,16 +3,13 @@
 import unittest
 from itertools import permutations
 
-from helpers import grown_tree, lots, parts_by_top, raised, shuffled, small_rankings, some_lots, wide_rankings
+from helpers import (
+    grown_tree, held_by, lots, parts_by_top, raised, shuffled, small_rankings, some_lots, wide_rankings,
+)
 from oneshape.errors import Refused
 from oneshape.trees import (
     above, below, content_of, is_ranking, is_search_tree, least_ranking, put_in, taken_out, top_between, tree_of, way,
 )
-
-
-def held_by(tree):
-    """The lot of the keys of a tree."""
-    return tuple(sorted(parts_by_top(tree)))
 
 
 class Contents(unittest.TestCase):
