@@ -9,17 +9,20 @@ from oneshape.errors import (
     InvalidCount,
     InvalidKey,
     InvalidLevels,
+    InvalidLot,
     InvalidOrder,
     InvalidRanking,
     InvalidStore,
     InvalidTree,
     InvalidTrees,
+    InvalidWorth,
 )
 from oneshape.parts import MOST_KEYS, keys_of, ranking_from_top, tree_by_ranks
 
 MOST_TOLD_TREES = 8
 MOST_TOLD_KEYS = 10
 MOST_CONTENTS = 8
+MOST_STORES = 8
 GREATEST_LEVEL = 4
 GREATEST_WORTH = 999999999
 
@@ -144,6 +147,12 @@ def check_number(number):
         raise InvalidCount("a number is an integer from 0 on")
 
 
+def check_count(count):
+    """InvalidCount unless this is an integer from 1 on."""
+    if type(count) is not int or count < 1:
+        raise InvalidCount("a count is an integer from 1 on")
+
+
 def check_size(size):
     """InvalidCount unless this is an integer from 1 to 24."""
     if type(size) is not int or not 1 <= size <= MOST_KEYS:
@@ -180,6 +189,33 @@ def check_store(store, bound):
     """InvalidStore unless this is a store of keys less than the bound."""
     if not holds_store(store, bound):
         raise InvalidStore("a store is a tuple of tuples (key, worth), the keys ascending")
+
+
+def check_lot(lot, bound):
+    """InvalidLot unless this is a lot of keys less than the bound."""
+    if not is_lot_below(lot, bound):
+        raise InvalidLot("a lot is an ascending tuple of keys")
+
+
+def check_worth(worth):
+    """InvalidWorth unless this is a worth."""
+    if not holds_worth(worth):
+        raise InvalidWorth("a worth is an integer from -999999999 to 999999999")
+
+
+def check_three_stores(base, one, other, bound):
+    """InvalidStore unless all three are stores of keys less than the bound."""
+    check_store(base, bound)
+    check_store(one, bound)
+    check_store(other, bound)
+
+
+def check_several(several):
+    """InvalidStore unless this is a tuple of 1 to 8 stores."""
+    if type(several) is not tuple or not 1 <= len(several) <= MOST_STORES:
+        raise InvalidStore("several stores are a tuple of 1 to 8 stores")
+    for store in several:
+        check_store(store, MOST_KEYS)
 
 
 def check_two_trees(ranking, tree, other_tree):

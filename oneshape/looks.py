@@ -3,6 +3,8 @@
 from oneshape.checks import check_ranking, check_two_stores, holds_store
 from oneshape.errors import InvalidCount
 from oneshape.parts import keys_of, tree_by_ranks
+from oneshape.stores import keys_differing
+from oneshape.sums import greatest_sums
 
 
 def is_store(ranking, value):
@@ -14,9 +16,7 @@ def is_store(ranking, value):
 def differing(ranking, store, other_store):
     """The lot of the keys at which both stores differ."""
     check_two_stores(ranking, store, other_store)
-    here = [entry[0] for entry in store if entry not in other_store]
-    there = [entry[0] for entry in other_store if entry not in store]
-    return tuple(sorted(set(here) | set(there)))
+    return keys_differing(store, other_store)
 
 
 def look_run(ranking, store, other_store):
@@ -99,18 +99,9 @@ def _most_on_ways(tree, chosen, least):
     if not tree:
         return [0]
     left, top, right = tree
-    sides = _best_of_both(_most_on_ways(left, chosen, least), _most_on_ways(right, chosen, least))
+    sides = greatest_sums(_most_on_ways(left, chosen, least), _most_on_ways(right, chosen, least))
     passed = any([key in chosen for key in keys_of(tree)])
     reached = [many + 1 if passed or further > 0 else many for further, many in enumerate(sides)]
     if top >= least:
         reached.append(sides[-1] + 1)
     return reached
-
-
-def _best_of_both(some, others):
-    """At each index the greatest sum of an item of each list whose indexes add up to it."""
-    best = [0] * (len(some) + len(others) - 1)
-    for at, many in enumerate(some):
-        for by, more in enumerate(others):
-            best[at + by] = max(best[at + by], many + more)
-    return best

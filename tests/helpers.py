@@ -11,6 +11,23 @@ FIELDS = {
 }
 
 
+# Subclasses are none of the kinds that the document means.
+class OwnTuple(tuple):
+    pass
+
+
+class OwnInteger(int):
+    pass
+
+
+class OwnString(str):
+    pass
+
+
+class OwnList(list):
+    pass
+
+
 def numbers(seed):
     """An endless row of numbers from 0 to 2 ** 31 - 1, the same for each seed."""
     state = seed

@@ -1,10 +1,9 @@
 """Each function with wrong arguments, alone and together; by name; what stays as it was."""
 
-import copy
 import unittest
-from itertools import product
 
-from helpers import FIELDS, hung_all, raised
+from argument_checks import ODD, ArgumentChecks
+from helpers import hung_all, raised
 from oneshape import errors, looks, pages, parted, reach, shapes, trees
 
 RANKS = (5, 40, 12, 33, 7)
@@ -80,16 +79,6 @@ OWN_ERRORS = [
 ]
 
 
-def nested(depth):
-    value = []
-    for _ in range(depth):
-        value = [value]
-    return value
-
-
-ODD = [None, True, False, "", "words", "0", [], [0], [[]], (None,), (True,), (False,), ("",), ([],), (0, [1]),
-       ((), 0), [(), 0, ()], ((), True, ()), ([], 0, ()), ((), 0, []), 10 ** 89, -10 ** 89, nested(40),
-       tuple(range(3000)), list(range(3000)), "x" * 20000, ((),) * 3000]
 LOTS = ODD + [0, 3, (1, 1), (2, 1), (-1,), (0, 2, 2), [0, 1], (0, 2.0), (0, "2")]
 KEYS = ODD + [-1, 5, 23, 24, (), (0,), 2.0, RANKS]
 STORES = ODD + [0, ((5, 1),), ((-1, 1),), ((0, 1), (0, 1)), ((1, 1), (0, 1)), ((0, True),), ((True, 0),), [(0, 1)],
@@ -129,55 +118,14 @@ WRONG = {
 }
 
 
-def good_arguments(function):
-    return [{**GOOD, **FITTING.get(function, {})}[name] for name in FUNCTIONS[function].split()]
-
-
-def calls_with_good_arguments():
-    """Each function with arguments that it takes, and with those for which the point tells an error."""
-    found = [(function, good_arguments(function), None) for function in FUNCTIONS]
-    return found + [(function, list(arguments), error) for function, arguments, error in OWN_ERRORS]
-
-
-class Arguments(unittest.TestCase):
-    def check_error(self, function, arguments, wanted):
-        """The call, by position and by name, raises just this error."""
-        names = FUNCTIONS[function].split()
-        found = [raised(function, *arguments), raised(function, **dict(zip(names, arguments)))]
-        for error in found:
-            self.assertIs(type(error), wanted, (function.__name__, repr(arguments)[:300]))
-        return found
-
-    def test_good_arguments_raise_nothing(self):
-        for function in FUNCTIONS:
-            self.assertIsNone(raised(function, *good_arguments(function)), function)
-
-    def test_each_wrong_argument_alone(self):
-        for function, arguments, _ in calls_with_good_arguments():
-            for at, name in enumerate(FUNCTIONS[function].split()):
-                if name != "value":
-                    wanted, values = WRONG[name]
-                    for value in values:
-                        self.check_error(function, arguments[:at] + [value] + arguments[at + 1:], wanted)
-
-    def test_several_wrong_arguments_raise_the_error_of_the_first_one(self):
-        for function, parameters in FUNCTIONS.items():
-            good = good_arguments(function)
-            choices = []
-            for name, argument in zip(parameters.split(), good):
-                wanted, values = WRONG.get(name, (None, []))
-                choices.append([(argument, None)] + [(value, wanted) for value in values[::5] + values[-1:]])
-            for chosen in product(*choices):
-                found = [error for _, error in chosen if error is not None]
-                if len(found) > 1:
-                    self.check_error(function, [value for value, _ in chosen], found[0])
-
-    def test_the_errors_of_the_points(self):
-        for function, arguments, wanted in OWN_ERRORS:
-            for error in self.check_error(function, arguments, type(wanted)):
-                field = FIELDS.get(type(wanted).__name__)
-                if field is not None:
-                    self.assertEqual(repr(getattr(error, field)), repr(getattr(wanted, field)), function)
+class Arguments(ArgumentChecks, unittest.TestCase):
+    functions = FUNCTIONS
+    good = GOOD
+    fitting = FITTING
+    wrong = WRONG
+    own_errors = OWN_ERRORS
+    with_lists = {"parts_of", "all_trees", "trees_left", "page_lists", "page_changes", "cut_changes", "look_run"}
+    questions = 7
 
     def test_keys_contents_and_the_like_are_those_of_the_ranking_or_the_levels(self):
         outside = [("key", 3), ("other_key", 3), ("content", (3,)), ("tree", ((), 3, ())), ("other_tree", ((), 3, ())),
@@ -223,13 +171,6 @@ class Arguments(unittest.TestCase):
         self.assertIs(type(raised(pages.cut_changes, (), (), 0, 1)), errors.InvalidKey)
         self.assertIs(type(raised(looks.hardest, (), 1)), errors.InvalidCount)
 
-    def test_good_calls_by_position_and_by_name_tell_the_same(self):
-        for function, parameters in FUNCTIONS.items():
-            good = good_arguments(function)
-            first = repr(function(*good))
-            self.assertEqual(repr(function(**dict(zip(parameters.split(), good)))), first, function)
-            self.assertEqual(repr(function(*copy.deepcopy(good))), first, function)
-
     def test_the_other_argument_may_equal_the_first(self):
         self.assertEqual(trees.top_between(RANKS, CONTENT, 2, 2), 2)
         self.assertIsNone(trees.top_between(RANKS, CONTENT, 1, 1))
@@ -237,46 +178,6 @@ class Arguments(unittest.TestCase):
         self.assertEqual(parted.unlike_tree(RANKS, TREE, TREE), ())
         self.assertEqual(parted.opened_bounds((1, 2), (1, 2)), (2, 2))
         self.assertEqual(looks.differing(RANKS, ((0, 5),), ((0, 5),)), ())
-
-    def test_questions_raise_nothing_for_any_value(self):
-        values = ODD + [value for _, wrong in WRONG.values() for value in wrong] + [{}, {1: 2}, object(), 1.5]
-        deep, left, right = (), (), ()
-        for _ in range(5000):
-            deep, left, right = (deep,), (left, 0, ()), ((), 0, right)
-        values += [deep, left, right, (deep, 0, deep), ((), (deep,)), ((0, deep),), [deep]]
-        asked = [function for function, parameters in FUNCTIONS.items() if parameters.endswith("value")]
-        self.assertEqual(len(asked), 7)
-        for function in asked:
-            for value in values:
-                self.assertIs(type(function(*good_arguments(function)[:-1], value)), bool, function)
-
-    def test_arguments_stay_as_they_are(self):
-        for function, good, _ in calls_with_good_arguments():
-            for at, name in enumerate(FUNCTIONS[function].split()):
-                for value in [good[at]] + WRONG.get(name, (None, ODD))[1]:
-                    arguments = good[:at] + [value] + good[at + 1:]
-                    before = repr(arguments)
-                    raised(function, *arguments)
-                    self.assertEqual(repr(arguments), before, function)
-
-    def test_lists_told_may_be_changed_without_any_effect(self):
-        told = [function for function in FUNCTIONS if self.lists_within(function(*good_arguments(function)))]
-        self.assertEqual({function.__name__ for function in told},
-                         {"parts_of", "all_trees", "trees_left", "page_lists", "page_changes", "cut_changes", "look_run"})
-        for function in told:
-            first = function(*good_arguments(function))
-            kept = repr(first)
-            for found in self.lists_within(first):
-                found.append("mark")
-            self.assertEqual(repr(function(*good_arguments(function))), kept, function)
-            lists = self.lists_within(first) + self.lists_within(function(*good_arguments(function)))
-            self.assertEqual(len({id(found) for found in lists}), len(lists), function)
-
-    def lists_within(self, value):
-        if type(value) not in (list, tuple):
-            return []
-        inner = [found for part in value for found in self.lists_within(part)]
-        return inner + [value] if type(value) is list else inner
 
     def test_the_index_of_what_is_no_string_is_0(self):
         for value in WRONG["text"][1]:

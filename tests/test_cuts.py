@@ -2,12 +2,8 @@
 
 import unittest
 
-from helpers import grown_tree, held_by, lots, parts_by_top, small_rankings, some_lots, wide_rankings
+from helpers import OwnTuple, grown_tree, held_by, lots, parts_by_top, small_rankings, some_lots, wide_rankings
 from oneshape.pages import cut, cut_changes, is_cut
-
-
-class OwnTuple(tuple):
-    pass
 
 
 def cut_by_tree(ranking, content, size):

@@ -3,7 +3,7 @@
 import unittest
 
 from helpers import check_examples
-from oneshape import looks, pages, parted, reach, shapes, trees
+from oneshape import edition_trees, editions, looks, page_looks, pages, parted, plans, reach, shapes, trees
 
 TREES = """
 >>> ranks = (5, 40, 12, 33, 7)
@@ -78,6 +78,51 @@ LOOKS = """
 [[(-1, 5, 'lone')], [(-1, 5, 'same')]]
 """
 
+PLANS = """
+>>> [part_views(ranks), fewest_looks(4, 1, all_views(4)), fewest_looks(4, 2, all_views(4)), fewest_looks(5, 1, part_views(ranks)), unparted(2, 2, ((0, 1),)), fewest_looks(2, 1, ((0, 1),))]
+[((0, 0), (0, 4), (1, 1), (2, 2), (2, 4), (3, 3), (4, 4)), 3, 4, 3, ((0,), (1,)), None]
+>>> [lots_left(3, 1, ((0, 1, False),)), fewest_left(3, 1, all_views(3), ((0, 1, False),)), best_look(3, 1, all_views(3), ((0, 1, False),)), answers(3, 2, ((0, 0), (1, 2)), (2,))]
+[[(0,), (1,)], 1, (0, 0), (True, False)]
+>>> plan = ("look", 0, 0, ("look", 1, 1, (), (1,)), (0,))
+>>> [is_plan(2, 1, all_views(2), plan), is_plan(2, 2, all_views(2), plan), plan_depth(2, 1, all_views(2), plan), led_by(2, 1, all_views(2), plan, (1,))]
+[True, False, 2, ((0, 0, True), (1, 1, False))]
+>>> [fewest_witness(4, 3, all_views(4), ()), fewest_witness(4, 2, all_views(4), (0, 2)), is_witness(2, 1, all_views(2), (0,), ((0, 0, False),))]
+[1, 2, True]
+"""
+
+PAGE_LOOKS = """
+>>> steps = (0, 1, 0, 0, 2, 0)
+>>> [page_stretches(steps), inner_stretches(steps, (0, 5)), inner_stretches(steps, (0, 3))]
+[[(0, 0), (0, 3), (0, 5), (1, 1), (2, 2), (2, 3), (3, 3), (4, 4), (5, 5)], [(0, 3), (4, 4), (5, 5)], [(0, 0), (1, 1), (2, 3)]]
+>>> [page_differing(steps, ((0, 5), (2, 1)), ((0, 5), (2, 2), (4, 0))), walk_of(steps, ()), walk_of(steps, (5,))]
+[(2, 4), [(0, 5, True)], [(0, 5, False), (0, 3, True), (4, 4, True)]]
+>>> walk_of(steps, (3, 5))
+[(0, 5, False), (0, 3, False), (0, 0, True), (1, 1, True), (2, 2, True), (4, 4, True), (5, 5, False)]
+>>> [look_counts(steps), most_looks(steps, 1), most_lot(steps, 1), most_looks(steps, 2), most_lot(steps, 2)]
+[(0, 1, 0, 1, 2, 0, 0, 16, 20, 24), 8, (2,), 9, (0, 2)]
+>>> [least_looks(6), most_looks((0, 0, 1, 0, 0, 0), 1), least_looks(24), most_looks(best_levels(24), 1)]
+[6, 6, 11, 11]
+>>> [walk_lot(steps, [(0, 5, False), (0, 3, True), (4, 4, True)]), is_page_walk(steps, [(0, 5, False), (0, 3, True)]), most_looks((), 1), look_counts(())]
+[(5,), False, 0, (1,)]
+"""
+
+EDITIONS = """
+>>> base, one = ((0, 1), (1, 1), (2, 5), (4, 7)), ((0, 1), (1, 2), (2, 5), (3, 9))
+>>> other, late = ((0, 3), (1, 1), (2, 5), (4, 8)), ((0, 3), (1, 1), (2, 5), (4, 7))
+>>> [fate(base, one, other, 0), fate(base, one, other, 1), fate(base, one, other, 2), fate(base, one, other, 3), fate(base, one, other, 4), fate(base, one, one, 1)]
+['other', 'one', 'kept', 'one', 'clash', 'alike']
+>>> [clash_keys(base, one, other), settled(base, one, other, (8,)), settled(base, one, other, (None,))]
+[(4,), ((0, 3), (1, 2), (2, 5), (3, 9), (4, 8)), ((0, 3), (1, 2), (2, 5), (3, 9))]
+>>> [put_as_one(base, one, late), put_all(base, (late, one, late, base)), opened_keys((5, 40, 12, 33, 7), base, one, other)]
+[((0, 3), (1, 2), (2, 5), (3, 9)), ((0, 3), (1, 2), (2, 5), (3, 9)), (1, 3, 4)]
+>>> [least_openings(base, one, other), least_openings(base, one, late), fewest_entries(base, one, other), fewest_entries(base, one, late)]
+[2, 1, 4, 2]
+>>> [is_edition_paper(base, one, late, [(0, 0, "other"), (1, 23, "one")]), paper_store(base, one, late, [(0, 0, "other"), (1, 23, "one")])]
+[True, ((0, 3), (1, 2), (2, 5), (3, 9))]
+>>> put_as_one(base, one, other)
+raises Clash((4,))
+"""
+
 
 class Examples(unittest.TestCase):
     def check(self, text, module, names):
@@ -97,6 +142,15 @@ class Examples(unittest.TestCase):
 
     def test_looks(self):
         self.check(LOOKS, looks, {"ranks": (5, 40, 12, 33, 7)})
+
+    def test_plans(self):
+        self.check(PLANS, plans, {"ranks": (5, 40, 12, 33, 7)})
+
+    def test_page_looks(self):
+        self.check(PAGE_LOOKS, page_looks, {})
+
+    def test_editions(self):
+        self.check(EDITIONS, editions, vars(edition_trees))
 
 
 if __name__ == "__main__":

@@ -2,17 +2,9 @@
 
 import unittest
 
-from helpers import grown_tree, lots, raised, shuffled, small_rankings, some_lots, wide_rankings
+from helpers import OwnInteger, OwnTuple, grown_tree, lots, raised, shuffled, small_rankings, some_lots, wide_rankings
 from oneshape.errors import InvalidRanking
 from oneshape.trees import is_ranking, is_search_tree, is_tree
-
-
-class OwnTuple(tuple):
-    pass
-
-
-class OwnInteger(int):
-    pass
 
 
 def nested(kind, depth):

@@ -44,6 +44,30 @@ INTERFACE = {
         "look_run": "ranking store other_store", "look_count": "ranking store other_store",
         "parting": "ranking store other_store", "most_parting": "ranking count", "hardest": "ranking count",
     },
+    "plans": {
+        "all_views": "count", "part_views": "ranking", "answers": "count most views lot", "lots_left": "count most told",
+        "unparted": "count most views", "fewest_left": "count most views told", "fewest_looks": "count most views",
+        "best_look": "count most views told", "is_plan": "count most views value",
+        "plan_depth": "count most views plan", "best_plan": "count most views",
+        "led_by": "count most views plan lot", "is_witness": "count most views lot value",
+        "fewest_witness": "count most views lot", "some_witness": "count most views lot",
+    },
+    "page_looks": {
+        "page_stretches": "levels", "inner_stretches": "levels page_stretch",
+        "page_differing": "levels store other_store", "page_walk": "levels store other_store",
+        "walk_of": "levels lot", "is_page_walk": "levels value", "walk_lot": "levels walk", "look_counts": "levels",
+        "most_looks": "levels count", "most_lot": "levels count", "worst_stores": "levels count",
+        "least_looks": "number", "best_levels": "number",
+    },
+    "editions": {
+        "is_plain_store": "value", "fate": "base one other key", "clash_keys": "base one other",
+        "put_as_one": "base one other", "settled": "base one other choices", "put_all": "base several",
+    },
+    "edition_trees": {
+        "opened_keys": "ranking base one other", "least_openings": "base one other", "best_ranking": "base one other",
+        "is_edition_paper": "base one other value", "shortest_paper": "base one other",
+        "fewest_entries": "base one other", "paper_store": "base one other paper",
+    },
 }
 
 PACKAGE = pathlib.Path(__file__).resolve().parent.parent / "oneshape"

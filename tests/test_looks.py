@@ -5,21 +5,14 @@ import unittest
 from itertools import combinations, product
 
 from helpers import (
-    grown_tree, held_by, numbers, parts_by_top, raised, shuffled, small_rankings, some_lots, wide_rankings,
+    OwnInteger, OwnTuple, grown_tree, held_by, numbers, parts_by_top, raised, shuffled, small_rankings, some_lots,
+    wide_rankings,
 )
 from oneshape.errors import InvalidCount
 from oneshape.looks import differing, hardest, is_store, look_count, look_run, most_parting, parting
 from oneshape.reach import longest_way
 
 GREAT = 999999999
-
-
-class OwnTuple(tuple):
-    pass
-
-
-class OwnInteger(int):
-    pass
 
 
 def small_stores(count):

@@ -4,17 +4,15 @@ import unittest
 from itertools import permutations
 from math import comb, factorial
 
-from helpers import grown_tree, held_by, hung_all, parts_by_top, raised, shapes_by_orders, shuffled, wide_rankings
+from helpers import (
+    OwnTuple, grown_tree, held_by, hung_all, parts_by_top, raised, shapes_by_orders, shuffled, wide_rankings,
+)
 from oneshape.errors import Refused, TooMany
 from oneshape.shapes import all_trees, is_rank_order, rank_order_at, rank_order_index, rank_orders
 from oneshape.trees import is_search_tree
 
 FEW_KEYS = [(), (0,), (23,), (0, 1), (3, 17), (0, 1, 2), (4, 5, 22), (0, 1, 2, 3), (1, 8, 9, 23), (0, 1, 2, 3, 4),
             (2, 3, 11, 20, 23)]
-
-
-class OwnTuple(tuple):
-    pass
 
 
 def counted(tree):

@@ -3,19 +3,11 @@
 import unittest
 from itertools import permutations, product
 
-from helpers import lots, numbers, raised, shuffled, some_lots
+from helpers import OwnInteger, OwnTuple, lots, numbers, raised, shuffled, some_lots
 from oneshape.errors import Refused
 from oneshape.pages import (
     height, is_page, page_changes, page_keys, page_lists, page_of, page_out, page_put, path_to,
 )
-
-
-class OwnTuple(tuple):
-    pass
-
-
-class OwnInteger(int):
-    pass
 
 
 def small_levels():
