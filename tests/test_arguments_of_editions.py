@@ -1,10 +1,10 @@
-"""The functions of editions.py and edition_trees.py with wrong arguments, alone and together."""
+"""The functions of editions.py, edition_trees.py, ancestors.py and paper_texts.py with wrong arguments."""
 
 import unittest
 
 from argument_checks import ODD, ArgumentChecks, odd_but
 from helpers import raised
-from oneshape import edition_trees, editions, errors
+from oneshape import ancestors, edition_trees, editions, errors, paper_texts
 
 BASE, ONE, OTHER = ((0, 1), (1, 1), (2, 5), (4, 7)), ((0, 1), (1, 2), (2, 5), (3, 9)), ((0, 3), (1, 1), (2, 5), (4, 7))
 CLASHING = ((0, 3), (1, 1), (2, 5), (4, 8))
@@ -63,6 +63,83 @@ class EditionsArguments(ArgumentChecks, unittest.TestCase):
         self.assertEqual(editions.put_all((), (last,) * 8), last)
         self.assertEqual(edition_trees.shortest_paper((), last, ()), [(0, 23, "one")])
         self.assertEqual(edition_trees.paper_store((), (), last, [(0, 23, "other")]), last)
+
+
+ROW = (((), BASE), ((0,), ONE), ((0,), OTHER), ((1, 2), ONE))
+CLASH_ROW = (((), BASE), ((0,), ONE), ((0,), CLASHING), ((1, 2), ONE), ((1, 2), BASE), ((0,), ()), ((0,), ()), ((0,), BASE))
+EDITIONS = odd_but() + [(), [ROW], list(ROW), 0, (((0,), BASE),), (((), BASE), ((), ONE)), ROW + (((4,), ONE),),
+                        ROW + (((1, 0), ONE),), ROW + (((1,), ((24, 1),)),), ROW + (((1,), ONE, ()),), ROW + ([(1,), ONE],),
+                        ROW * 3, (((), BASE),) + (((0,), BASE),) * 8]
+INDEXES = odd_but() + [-1, 5, 7, 8, (), (0,), 2.0, "2", [0]]
+KEYS = odd_but() + [-1, 24, (), (0,), 2.0, "a"]
+
+
+class AncestorsArguments(ArgumentChecks, unittest.TestCase):
+    functions = {
+        ancestors.is_editions: "value", ancestors.elders: "editions edition",
+        ancestors.nearest: "editions edition other_edition", ancestors.base_of: "editions edition other_edition",
+        ancestors.sequences: "editions", ancestors.joined_store: "editions edition other_edition",
+        ancestors.grown: "editions edition other_edition", ancestors.tellers: "editions edition key",
+    }
+    good = {"editions": ROW, "edition": 1, "other_edition": 2, "key": 4, "value": ROW}
+    wrong = {
+        "editions": (errors.InvalidEditions, EDITIONS), "edition": (errors.InvalidEdition, INDEXES),
+        "other_edition": (errors.InvalidEdition, INDEXES), "key": (errors.InvalidKey, KEYS),
+    }
+    own_errors = [
+        (ancestors.base_of, (ROW + (((1, 2), ()),), 3, 4), errors.NotOne((1, 2))),
+        (ancestors.joined_store, (ROW + (((1, 2), ()),), 3, 4), errors.NotOne((1, 2))),
+        (ancestors.joined_store, (ROW[:2] + (((0,), CLASHING),), 1, 2), errors.Clash((4,))),
+        (ancestors.grown, (ROW[:2] + (((0,), CLASHING),), 2, 1), errors.Clash((4,))),
+        (ancestors.grown, (ROW + (((1, 2), ()),), 4, 3), errors.NotOne((1, 2))),
+    ]
+    with_lists = set()
+    questions = 1
+
+    def test_errors_of_eight_editions(self):
+        for one, other, wanted in [(3, 4, errors.NotOne), (1, 2, errors.Clash), (1, 7, errors.TooMany), (0, 0, errors.TooMany),
+                                   (3, 8, errors.InvalidEdition), (None, 8, errors.InvalidEdition)]:
+            self.check_error(ancestors.grown, [CLASH_ROW, one, other], wanted)
+        self.assertEqual(raised(ancestors.grown, CLASH_ROW, 1, 7).count, 8)
+
+    def test_wrong_editions_are_told_by_their_index(self):
+        for value, index in [((), 0), (list(ROW), 0), (None, 0), (ROW + (((4,), ONE),), 4), (ROW * 3, 4),
+                             ((((), BASE),) + (((0,), BASE),) * 8, 8), ((((), BASE), ((), ONE)), 1)]:
+            for function in (ancestors.sequences, lambda editions: ancestors.elders(editions, None)):
+                self.assertEqual(repr(raised(function, value).index), repr(index))
+
+    def test_two_indexes_may_be_the_same(self):
+        for edition in range(4):
+            self.assertEqual(ancestors.nearest(ROW, edition, edition), (edition,))
+            self.assertEqual(ancestors.grown(ROW, edition, edition)[4], ((edition,), ROW[edition][1]))
+
+
+WAY = ("way", (0, 4, 2, 3, 1), (0, 1, 2), 2, (1, 2))
+NO_TEXTS = [value for value in ODD if type(value) is not str] + [0, (), ("a",), b"a", ["a"]]
+
+
+class PaperTextsArguments(ArgumentChecks, unittest.TestCase):
+    functions = {
+        paper_texts.ranking_text: "ranking", paper_texts.store_text: "store", paper_texts.ranking_told: "text",
+        paper_texts.store_told: "text", paper_texts.is_paper: "value", paper_texts.paper_text: "value",
+        paper_texts.paper_told: "text",
+    }
+    good = {"ranking": RANKS, "store": BASE, "text": "", "value": WAY}
+    fitting = {paper_texts.paper_told: {"text": "d;a0;a1;a"}}
+    wrong = {
+        "ranking": (errors.InvalidRanking, ODD + [0, (1, 1), tuple(range(25)), list(RANKS), (1.0,)]),
+        "store": (errors.InvalidStore, STORES),
+        "text": (errors.InvalidText, NO_TEXTS + ["y", "A", " ", "a ", "*", ";", "\n", "aa", "b."]),
+        (paper_texts.paper_text, "value"): (errors.InvalidPaper, ODD + [(), list(WAY), WAY[:4], WAY + ((),), 0, "w;a;a;a;a"]),
+    }
+    own_errors = [
+        (paper_texts.ranking_told, ("ac",), errors.InvalidText(2)), (paper_texts.store_told, ("b1.a2",), errors.InvalidText(3)),
+        (paper_texts.paper_told, ("c;;;;",), errors.InvalidText(5)), (paper_texts.paper_told, ("w;ba;abc;c;b",), errors.NotShown(0)),
+        (paper_texts.paper_told, ("w;ba;a;b;b",), errors.NotShown(1)), (paper_texts.paper_told, ("w;ba;ab;b;a",), errors.NotShown(2)),
+        (paper_texts.paper_told, ("d;;;a",), errors.NotShown(3)), (paper_texts.paper_told, ("c;;;;a",), errors.NotShown(3)),
+    ]
+    with_lists = set()
+    questions = 1
 
 
 if __name__ == "__main__":

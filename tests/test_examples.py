@@ -3,7 +3,10 @@
 import unittest
 
 from helpers import check_examples
-from oneshape import edition_trees, editions, looks, page_looks, pages, parted, plans, reach, shapes, trees
+from oneshape import (
+    ancestors, console, edition_trees, editions, live, looks, page_looks, pages, paper_texts, parted, plans, reach, shapes,
+    trees,
+)
 
 TREES = """
 >>> ranks = (5, 40, 12, 33, 7)
@@ -123,6 +126,52 @@ EDITIONS = """
 raises Clash((4,))
 """
 
+ANCESTORS = """
+>>> late_one = ((0, 3), (1, 2), (2, 5), (3, 9))
+>>> row = (((), base), ((0,), one), ((0,), late), ((1, 2), late_one))
+>>> [elders(row, 3), nearest(row, 1, 2), nearest(row, 1, 3), base_of(row, 2, 3), sequences(row), tellers(row, 3, 0), tellers(row, 3, 2), joined_store(row, 1, 2)]
+[(0, 1, 2, 3), (0,), (1,), 2, 2, (2,), (0,), ((0, 3), (1, 2), (2, 5), (3, 9))]
+>>> [grown(row[:3], 1, 2) == row, grown(row, 0, 3)[4]]
+[True, ((0, 3), ((0, 3), (1, 2), (2, 5), (3, 9)))]
+>>> base_of(row + (((1, 2), one),), 3, 4)
+raises NotOne((1, 2))
+"""
+
+LIVE = """
+>>> live = Live((5, 40, 12, 33, 7), ((1, 7), (3, 0)))
+>>> [live.put(2, 5), live.put(1, 8), live.take(3), live.store, live.tree(), live.way(4), live.height(), live.changed()]
+[3, 1, 0, ((1, 8), (2, 5)), ((), 1, ((), 2, ())), (1, 2), 2, (1, 2, 3)]
+>>> [live.take_in(((0, 9), (1, 7), (2, 5), (3, 0))), live.would(("cut", 0, 1)), live.undo(), live.undo(), live.moments()]
+[(0,), (((2, 5),), 1), ('take_in', ((0, 9), (1, 7), (2, 5), (3, 0))), ('take', 3), [(0,), (1,), (2,)]]
+>>> live.take_in(((1, 9), (3, 0)))
+raises Clash((1,))
+>>> LowLive((5, 40, 12, 33, 7), ((1, 0), (3, 0)), 2).put(2, 0)
+raises TooHigh((2,))
+"""
+
+PAPER_TEXTS = """
+>>> [ranking_text((5, 40, 12, 33, 7)), ranking_told("bdcea"), store_text(((1, 7), (3, -2))), store_told("a0.c15"), store_told("")]
+['bdcea', (0, 4, 2, 3, 1), 'b7.d-2', ((0, 0), (2, 15)), ()]
+>>> [paper_text(("way", (0, 4, 2, 3, 1), (0, 1, 2), 2, (1, 2))), paper_told("d;a0.c15;a0;c"), paper_told("c;a0;a1;;a")]
+['w;bdcea;abc;c;bc', ('differ', ((0, 0), (2, 15)), ((0, 0),), (2,)), ('clash', ((0, 0),), ((0, 1),), (), (0,))]
+>>> paper_told("w;ba;ab;b;a")
+raises NotShown(2)
+>>> paper_told("c;;;;")
+raises InvalidText(5)
+>>> store_told("b1.a2")
+raises InvalidText(3)
+>>> ranking_told("ac")
+raises InvalidText(2)
+"""
+
+CONSOLE = """
+>>> console = Console()
+>>> console.execute("run open a bdcea; put b 7; put d -2; put c 5; tree; way e; take d; height; in a9; show; paper; moments")
+'ok; 1; 2; 3; (-,1,((-,2,-),3,-)); bd; -2; 2; a; a9.b7.c5; d;;a9.b7.c5;abc; 0 1 2 3 4 5'
+>>> [console.execute("undo"), console.execute("cut a b"), console.execute("changed"), console.execute("journal"), console.execute("where")]
+['in a9', '1', 'c', 'open a bdcea; put b 7; put d -2; put c 5; take d; cut a b', '1 5 0']
+"""
+
 
 class Examples(unittest.TestCase):
     def check(self, text, module, names):
@@ -149,8 +198,18 @@ class Examples(unittest.TestCase):
     def test_page_looks(self):
         self.check(PAGE_LOOKS, page_looks, {})
 
-    def test_editions(self):
-        self.check(EDITIONS, editions, vars(edition_trees))
+    def test_editions_and_ancestors(self):
+        # The stores of the first part have their names in the second one, too.
+        self.check(EDITIONS + ANCESTORS, editions, {**vars(edition_trees), **vars(ancestors)})
+
+    def test_live(self):
+        self.check(LIVE, live, {})
+
+    def test_paper_texts(self):
+        self.check(PAPER_TEXTS, paper_texts, {})
+
+    def test_console(self):
+        self.check(CONSOLE, console, {})
 
 
 if __name__ == "__main__":

@@ -68,6 +68,31 @@ INTERFACE = {
         "is_edition_paper": "base one other value", "shortest_paper": "base one other",
         "fewest_entries": "base one other", "paper_store": "base one other paper",
     },
+    "ancestors": {
+        "is_editions": "value", "elders": "editions edition", "nearest": "editions edition other_edition",
+        "base_of": "editions edition other_edition", "sequences": "editions",
+        "joined_store": "editions edition other_edition", "grown": "editions edition other_edition",
+        "tellers": "editions edition key",
+    },
+    "live": {"replay": "ranking store deeds bound"},
+    "paper_texts": {
+        "ranking_text": "ranking", "store_text": "store", "ranking_told": "text", "store_told": "text",
+        "is_paper": "value", "paper_text": "value", "paper_told": "text",
+    },
+}
+
+# Of each class the parameters of its methods, those that are made with included.
+CLASSES = {
+    "live": {
+        "Live": {
+            "__init__": "ranking store", "put": "key worth", "take": "key", "cut": "key other_key",
+            "take_in": "other_store", "tree": "", "way": "key", "height": "", "changed": "", "moments": "",
+            "would": "deed", "undo": "", "begin": "", "keep": "", "drop": "", "twin": "", "__eq__": "other",
+            "__ne__": "other",
+        },
+        "LowLive": {"__init__": "ranking store bound", "twin": "", "__eq__": "other", "__ne__": "other"},
+    },
+    "console": {"Console": {"__init__": "", "execute": "command"}},
 }
 
 PACKAGE = pathlib.Path(__file__).resolve().parent.parent / "oneshape"
@@ -86,6 +111,24 @@ class Layout(unittest.TestCase):
                 self.assertIn(name, defined)
                 self.assertEqual(getattr(module, name).__module__, "oneshape." + file)
                 self.assertEqual(list(inspect.signature(getattr(module, name)).parameters), arguments.split())
+
+    def test_the_classes_are_there_with_their_own_methods(self):
+        for file, classes in CLASSES.items():
+            module = importlib.import_module("oneshape." + file)
+            defined = {node.name: node for node in self.trees[file + ".py"].body if isinstance(node, ast.ClassDef)}
+            for name, methods in classes.items():
+                held = getattr(module, name)
+                self.assertEqual(held.__module__, "oneshape." + file)
+                own = {node.name for node in defined[name].body if isinstance(node, ast.FunctionDef)}
+                for method, arguments in methods.items():
+                    self.assertIn(method, own, name)
+                    found = list(inspect.signature(getattr(held, method)).parameters)
+                    self.assertEqual(found, ["self"] + arguments.split(), (name, method))
+
+    def test_the_bound_of_replay_is_passed_by_its_name(self):
+        bound = inspect.signature(importlib.import_module("oneshape.live").replay).parameters["bound"]
+        self.assertIs(bound.kind, inspect.Parameter.KEYWORD_ONLY)
+        self.assertIsNone(bound.default)
 
     def test_the_folder_holds_nothing_else(self):
         found = {path.name for path in PACKAGE.iterdir()} - {"__pycache__"}
